@@ -1,0 +1,1 @@
+"""Asyncframes: two threads that draw one scrolled document."""
