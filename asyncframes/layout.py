@@ -21,13 +21,17 @@ def range_of(scroller):
     return max(0, length_of(scroller) - height_of(scroller))
 
 
+def into_range(scroller, offset):
+    """The offset that is nearest to this integer, among those in the range."""
+    return max(0, min(offset, range_of(scroller)))
+
+
 def fitted(document, offsets):
     """The integers of a dictionary, fitted to the scrollers of a document."""
     found = {}
     for box in all_boxes(document):
         if is_scroller(box):
-            wanted = offsets.get(number_of(box), 0)
-            found[number_of(box)] = max(0, min(wanted, range_of(box)))
+            found[number_of(box)] = into_range(box, offsets.get(number_of(box), 0))
     return found
 
 

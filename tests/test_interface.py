@@ -22,6 +22,23 @@ FUNCTIONS = {
         "fitted": ["document", "offsets"],
         "windows": ["document", "offsets"],
     },
+    "pictures": {
+        "picture": ["document", "offsets"],
+        "under": ["document", "offsets", "row"],
+    },
+    "scrolling": {
+        "scrolled": ["document", "offsets", "path", "amount"],
+        "moved": ["document", "offsets", "moves"],
+    },
+    "edits": {
+        "edited": ["document", "edit"],
+        "anchor": ["scroller", "offset"],
+        "offsets_after": ["document", "offsets", "later"],
+    },
+    "plain": {
+        "do_deed": ["document", "offsets", "deed"],
+        "plain_run": ["document", "deeds"],
+    },
 }
 
 ERRORS = (
