@@ -21,18 +21,20 @@ def range_of(scroller):
     return max(0, length_of(scroller) - height_of(scroller))
 
 
-def into_range(scroller, offset):
-    """The offset that is nearest to this integer, among those in the range."""
-    return max(0, min(offset, range_of(scroller)))
+def ranges(document):
+    """The ranges of the scrollers of a document, by their numbers."""
+    return {number_of(box): range_of(box) for box in all_boxes(document) if is_scroller(box)}
+
+
+def nearest(offset, greatest):
+    """The offset that is nearest to this integer, of those up to the greatest."""
+    return max(0, min(offset, greatest))
 
 
 def fitted(document, offsets):
     """The integers of a dictionary, fitted to the scrollers of a document."""
-    found = {}
-    for box in all_boxes(document):
-        if is_scroller(box):
-            found[number_of(box)] = into_range(box, offsets.get(number_of(box), 0))
-    return found
+    greatest = ranges(document)
+    return {number: nearest(offsets.get(number, 0), greatest[number]) for number in greatest}
 
 
 def windows(document, offsets):

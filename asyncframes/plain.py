@@ -1,7 +1,7 @@
 """Deeds, and what one thread alone does with them."""
 
 from asyncframes.edits import edited, existing_scroller, offsets_after
-from asyncframes.layout import fitted, into_range
+from asyncframes.layout import fitted, nearest, range_of
 from asyncframes.scrolling import moved
 
 
@@ -20,7 +20,7 @@ def offsets_with(document, offsets, number, offset):
     """The offsets, of which one is set. Raises NoSuchBox, NotAScroller."""
     scroller = existing_scroller(document, number)
     later = dict(offsets)
-    later[number] = into_range(scroller, offset)
+    later[number] = nearest(offset, range_of(scroller))
     return later
 
 

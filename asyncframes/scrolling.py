@@ -1,7 +1,7 @@
 """Scrolls along a path, and the moves that they make."""
 
-from asyncframes.boxes import find, is_scroller
-from asyncframes.layout import into_range, range_of
+from asyncframes.boxes import find
+from asyncframes.layout import nearest, range_of, ranges
 
 
 def scrolled(document, offsets, path, amount):
@@ -27,10 +27,10 @@ def step_of(offset, amount, greatest):
 
 def moved(document, offsets, moves):
     """The offsets after moves, done one after another."""
+    greatest = ranges(document)
     later = dict(offsets)
     for number, amount in moves:
         # A move may be older than the document: its scroller may be gone.
-        box = find(document, number)
-        if box is not None and is_scroller(box):
-            later[number] = into_range(box, later[number] + amount)
+        if number in greatest:
+            later[number] = nearest(later[number] + amount, greatest[number])
     return later
