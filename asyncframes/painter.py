@@ -115,9 +115,13 @@ def scrollers_among(document, numbers):
 
 
 def painted_at_commit(active, state):
-    """The numbers of the blocks of a new state that the active one painted."""
-    painted = [box for box in all_boxes(active.document) if number_of(box) in active.painted]
+    """The blocks of a new state that are painted in it or, as they are, in the active one."""
+    painted = painted_boxes(active) + painted_boxes(state)
     return sorted([number_of(box) for box in all_boxes(state.document) if box in painted])
+
+
+def painted_boxes(state):
+    return [box for box in all_boxes(state.document) if number_of(box) in state.painted]
 
 
 def missing_blocks(state, moves):

@@ -325,6 +325,14 @@ class Receiving(unittest.TestCase):
         document = scroller(11, 15, block(3, 80), block(5, 40), block(1, 100), block(10, 20), scroller(2, 30, block(4, 50)))
         self.assertEqual(self.received(document, 7), [4])
 
+    def test_a_state_that_was_painted_by_steps_already(self):
+        state = state_of(SAMPLE, 1)
+        Painter(state).paint()
+        painter = painter_of(scroller(1, 50, block(4, 50), block(6, 24)))
+        paint_all(painter)
+        painter.receive(state)
+        self.assertEqual(painter.pending.painted, [2, 4])
+
     def test_the_active_state_stays_painted_as_it_was(self):
         painter = painter_of(SAMPLE)
         painter.paint()
